@@ -1,0 +1,1 @@
+"""Deedwright: deeds, handlers that answer them, and code that need not search."""

@@ -1,0 +1,35 @@
+"""The forms that programs are made of: tuples, texts, whole numbers and None alone.
+
+A program is a tuple of items, which are
+    ("def", f, params, block, body)     params a tuple of names, block a name or None
+    ("handler", h, clauses, end)        clauses a tuple of (d, x, s, body), end (x, s, body)
+and a body is an expression: a tuple of a word and of what FORMS tells for that word.
+"""
+
+WORDS = ("def", "handler", "on", "end", "let", "if", "call", "hand", "do", "handle", "go", "guard")
+SIGNS = ("+", "-", "*", "<")
+LETTERS = "abcdefghijklmnopqrstuvwxyz"
+LONGEST_NAME = 8
+
+# A "part" is an expression, "parts" a tuple of them, a "block" a name or None.
+FORMS = {
+    "num": ("number",),
+    "var": ("name",),
+    "op": ("sign", "part", "part"),
+    "let": ("name", "part", "part"),
+    "if": ("part", "part", "part"),
+    "call": ("name", "block", "parts"),
+    "do": ("name", "part"),
+    "handle": ("name", "part", "part"),
+    "go": ("part", "part"),
+    "guard": ("part", "part"),
+}
+CLAUSE_FORM = ("name", "name", "name", "part")
+END_FORM = ("name", "name", "part")
+
+
+def is_name(word):
+    """Whether a text may be the name of something."""
+    if word == "" or len(word) > LONGEST_NAME or word in WORDS:
+        return False
+    return all([sign in LETTERS for sign in word])
