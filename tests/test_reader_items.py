@@ -75,7 +75,8 @@ class Handlers(ReaderCase):
             self.refuses("(handler h (on d x s 1)" + end + ")")
 
     def test_a_thing_too_many(self):
-        for on in ("(on d x s 1 2)", "(on d x s s 1)", "(on d e x s 1)", "(on d x s 1 ())", "(on d x s () 1)", "(on d (x s) 1)"):
+        for on in ("(on d x s 1 2)", "(on d x s s 1)", "(on d e x s 1)", "(on d x s 1 ())", "(on d x s () 1)",
+                   "(on d (x s) 1)"):
             self.refuses("(handler h " + on + END + ")")
         for end in ("(end x s x x)", "(end d x s 1)", "(end x s x ())", "(end x s () x)", "(end (x s) x)"):
             self.refuses("(handler h " + end + ")")
@@ -85,7 +86,8 @@ class Handlers(ReaderCase):
             self.refuses(text)
 
     def test_other_things_among_the_clauses(self):
-        for thing in ("x", "5", "+", "on", "end", "(+ 1 2)", "(def f () 1)", "(do d 1)", "((on d x s 1))", "(onn d x s 1)"):
+        for thing in ("x", "5", "+", "on", "end", "(+ 1 2)", "(def f () 1)", "(do d 1)", "((on d x s 1))",
+                      "(onn d x s 1)"):
             self.refuses("(handler h " + thing + END + ")")
             self.refuses("(handler h (on d x s 1)" + thing + " " + END + ")")
             self.refuses("(handler h " + thing + ")")
@@ -117,7 +119,8 @@ class Programs(ReaderCase):
         outside = ["x", "5", "+", "()", "(())", "(x)", "(5)", "(+ 1 2)", "(do d 1)", "(call f)", "(on d x s 1)"]
         outside += [END, "(def)", "((def g () 1))", "(" + item + item + ")", "(fun g () 1)", "(DEF g () 1)"]
         for thing in outside + WORDS:
-            for text in (thing, item + thing, thing + item, item + " " + thing, thing + "\n" + item, item + thing + item):
+            for text in (thing, item + thing, thing + item, item + " " + thing, thing + "\n" + item,
+                         item + thing + item):
                 self.refuses(text)
 
     def test_an_item_within_an_item(self):

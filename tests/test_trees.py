@@ -37,23 +37,44 @@ class Names(unittest.TestCase):
                     self.assertIs(trees.is_name(word), False)
 
 
+def fits(kind, value):
+    """Whether a value is of a kind that the forms speak of."""
+    if kind == "parts":
+        return type(value) is tuple and all(fits("part", part) for part in value)
+    if kind == "part":
+        form = trees.FORMS[value[0]]
+        return len(value) == len(form) + 1 and all(fits(one, part) for one, part in zip(form, value[1:]))
+    if kind == "block":
+        return value is None or trees.is_name(value)
+    if kind == "number":
+        return type(value) is int and 0 <= value <= 999999999999999999
+    return value in trees.SIGNS if kind == "sign" else kind == "name" and trees.is_name(value)
+
+
 class Forms(unittest.TestCase):
-    def test_every_form_of_expression(self):
-        self.assertEqual(
-            trees.FORMS,
-            {
-                "num": ("number",),
-                "var": ("name",),
-                "op": ("sign", "part", "part"),
-                "let": ("name", "part", "part"),
-                "if": ("part", "part", "part"),
-                "call": ("name", "block", "parts"),
-                "do": ("name", "part"),
-                "handle": ("name", "part", "part"),
-                "go": ("part", "part"),
-                "guard": ("part", "part"),
-            },
-        )
+    EXPRESSIONS = (
+        ("num", 0),
+        ("var", "x"),
+        ("op", "+", ("num", 1), ("var", "y")),
+        ("let", "x", ("num", 1), ("var", "x")),
+        ("if", ("num", 1), ("num", 2), ("num", 3)),
+        ("call", "f", None, ()),
+        ("call", "f", "g", (("num", 1), ("var", "x"))),
+        ("do", "d", ("num", 1)),
+        ("handle", "h", ("num", 1), ("num", 2)),
+        ("go", ("num", 1), ("var", "s")),
+        ("guard", ("num", 1), ("num", 2)),
+    )
+
+    def test_each_form_of_expression(self):
+        for tree in self.EXPRESSIONS:
+            self.assertTrue(fits("part", tree), tree)
+        self.assertEqual(sorted(trees.FORMS), sorted({tree[0] for tree in self.EXPRESSIONS}))
+
+    def test_a_thing_too_few_or_too_many_fits_none(self):
+        for tree in self.EXPRESSIONS:
+            self.assertFalse(fits("part", tree[:-1]), tree)
+            self.assertFalse(fits("part", tree + (("num", 1),)), tree)
 
     def test_clauses_and_ends(self):
         self.assertEqual(trees.CLAUSE_FORM, ("name", "name", "name", "part"))
