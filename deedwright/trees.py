@@ -33,3 +33,34 @@ def is_name(word):
     if word == "" or len(word) > LONGEST_NAME or word in WORDS:
         return False
     return all([sign in LETTERS for sign in word])
+
+
+def parts_of(tree):
+    """The parts of an expression, from left to right."""
+    if tree[0] == "call":
+        return tree[3]
+    return tuple([thing for kind, thing in zip(FORMS[tree[0]], tree[1:]) if kind == "part"])
+
+
+def all_within(tree):
+    """An expression with all its parts and theirs, in an order of its own."""
+    # By a loop, so that no depth is too much.
+    found = []
+    waiting = [tree]
+    while waiting != []:
+        one = waiting.pop()
+        found.append(one)
+        waiting.extend(parts_of(one))
+    return found
+
+
+def bodies_of(item):
+    """The bodies of an item, those of clauses in their order and that of the end last."""
+    if item[0] == "def":
+        return (item[4],)
+    return tuple([clause[3] for clause in item[2]]) + (item[3][2],)
+
+
+def items_by_name(program):
+    """The items of a program by their names."""
+    return dict([(item[1], item) for item in program])

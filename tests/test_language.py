@@ -28,6 +28,8 @@ NEVER = "register mro elements open input version_info with_traceback add_note f
 WORDS = """type typing typing_extensions enum Enum IntEnum StrEnum Flag IntFlag Generic Protocol ABC ABCMeta
     namedtuple NamedTuple TypedDict TYPE_CHECKING abstractmethod""".split()
 WITHIN = ["dataclass", "overload", "contextmanager"]
+WALKS = ["zip", "enumerate", "reversed", "range", "items", "keys", "values"]
+WALKERS = ["list", "tuple", "dict", "sorted", "sum", "any", "all", "enumerate", "zip"]
 
 
 def name_faults(name, line):
@@ -225,6 +227,47 @@ def node_faults(node, methods):
         yield "L6", node.lineno
 
 
+def called_name(node):
+    """The name of the function or method that a call calls; None for another node."""
+    if not isinstance(node, ast.Call):
+        return None
+    return getattr(node.func, "id", None) or getattr(node.func, "attr", None)
+
+
+def is_walked(node, parent):
+    """Whether a zip, a range or its like is walked on the spot."""
+    if isinstance(parent, (ast.For, ast.comprehension)):
+        return parent.iter == node
+    if called_name(parent) in ("min", "max"):
+        return parent.args == [node]
+    if called_name(parent) == "join":
+        return isinstance(parent.func.value, ast.Constant)
+    return called_name(parent) in WALKERS and (called_name(parent) == "zip" or parent.args[0] == node)
+
+
+def is_set_asked(node, parent):
+    """Whether a set is made just to be asked, sorted or counted."""
+    if isinstance(parent, ast.Compare):
+        return all(isinstance(part, (ast.In, ast.NotIn, ast.Eq, ast.NotEq)) for part in parent.ops)
+    if isinstance(parent, ast.BinOp):
+        return isinstance(parent.op, (ast.Sub, ast.BitAnd, ast.BitOr, ast.BitXor))
+    return called_name(parent) in ("sorted", "len") and not parent.keywords
+
+
+def pair_faults(parent, node):
+    """Of a node, for what it stands in."""
+    if called_name(node) in WALKS and not is_walked(node, parent):
+        yield "L23", node.lineno
+    if (called_name(node) in ("set", "frozenset") or isinstance(node, ast.Set)) and not is_set_asked(node, parent):
+        yield "L24", node.lineno
+    if isinstance(node, ast.Attribute) and node.attr in METHODS and getattr(parent, "func", None) != node:
+        yield "L25", node.lineno
+    if isinstance(node, ast.FormattedValue) and (node.format_spec or not isinstance(node.value, ast.Name)):
+        yield "L7", node.lineno
+    if isinstance(node, ast.BinOp) and isinstance(node.op, ast.Pow) and not isinstance(node.right, ast.Constant):
+        yield "L27", node.lineno
+
+
 def faults(source, methods=()):
     """The rules that a file breaks, with the rows; methods are those of the whole package's classes."""
     tree = ast.parse(source)
@@ -232,6 +275,8 @@ def faults(source, methods=()):
     known = list(methods) + [part.name for part in methods_of(tree)]
     for node in ast.walk(tree):
         found += node_faults(node, known)
+        for part in ast.iter_child_nodes(node):
+            found += pair_faults(node, part)
     return found
 
 
@@ -248,6 +293,8 @@ BROKEN = (
     ("L7", "def f(a):\n    return a / 2\n"),
     ("L7", "def f(a):\n    return [x for y in a for x in y]\n"),
     ("L7", "def f(a):\n    return all(x for x in a)\n"),
+    ("L7", "def f(a):\n    return f'{a[0]}'\n"),
+    ("L7", "def f(a):\n    return f'{a:3}'\n"),
     ("L8", "def f(a):\n    return map(f, a)\n"),
     ("L8", "def f(a):\n    return chr(a)\n"),
     ("L10", "def f(a):\n" + "    a = a + 1\n" * 40),
@@ -265,8 +312,23 @@ BROKEN = (
     ("L17", "def f(a):\n    a.sort()\n"),
     ("L19", "def f(a):\n    try:\n        return a[0]\n    except Exception:\n        return 1\n"),
     ("L20", "def f(a, b):\n    return a is b\n"),
+    ("L23", "def f(a):\n    b = reversed(a)\n    return list(b)\n"),
+    ("L23", "def f(a, b):\n    a.extend(reversed(b))\n"),
+    ("L23", "def f(a):\n    return len(a.items())\n"),
+    ("L24", "def f(a):\n    b = set(a)\n    return 1 in b\n"),
+    ("L24", "def f(a):\n    for b in {1, a}:\n        return b\n"),
     ("L25", "def f(a):\n    return a.casefold()\n"),
+    ("L25", "def f(a):\n    b = a.append\n    return b\n"),
     ("L27", "a = '%'\n"),
+    ("L27", "def f(a):\n    return 2 ** a\n"),
+)
+KEPT = (
+    "def f(a):\n    return sorted(set(a) - set([1]))\n",
+    "def f(a):\n    return [k for k in reversed(a) if k in set(a)]\n",
+    "def f(a, b):\n    a.extend(list(reversed(b)))\n",
+    "def f(a, b):\n    return dict(zip(a, b))\n",
+    "def f(a):\n    return f'{a} {a!r}'\n",
+    "def f(a):\n    return ' '.join(a.keys())\n",
 )
 
 
@@ -275,6 +337,11 @@ class Language(unittest.TestCase):
         for rule, source in BROKEN:
             with self.subTest(source=source[:60]):
                 self.assertIn(rule, [found for found, line in faults(source)])
+
+    def test_the_checks_let_by_what_is_kept_to(self):
+        for source in KEPT:
+            with self.subTest(source=source):
+                self.assertEqual(faults(source), [])
 
     def test_the_folder_holds_files_of_the_package_alone(self):
         for path in PACKAGE.iterdir():
