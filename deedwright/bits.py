@@ -14,15 +14,22 @@ def deeds_of(program):
     return sorted(set(found))
 
 
-def row_by(some, deeds):
-    """The row of some of the deeds, which may come in any order and twice."""
-    wanted = dict([(deed, True) for deed in some])
-    row = 0
+def bits_by_deed(deeds):
+    """For each of the deeds the row that has it alone."""
+    bits = {}
     bit = 1
     for deed in deeds:
-        if deed in wanted:
-            row = row | bit
+        bits[deed] = bit
         bit = bit << 1
+    return bits
+
+
+def row_by(some, deeds):
+    """The row of some of the deeds, which may come in any order and twice."""
+    bits = bits_by_deed(deeds)
+    row = 0
+    for deed in some:
+        row = row | bits[deed]
     return row
 
 
@@ -31,7 +38,7 @@ def told(row, deeds):
     found = []
     left = row
     for deed in deeds:
-        if left & 1 == 1:
+        if (left & 1) == 1:
             found.append(deed)
         left = left >> 1
     return found

@@ -6,7 +6,7 @@ import unittest
 
 from deedwright.bits import deeds_of, less, row_by, told
 from deedwright.reader import read
-from helper import Maker, nested_parts
+from helper import Maker, all_deeds
 
 H = "(handler h (end x s x))"
 MANY = sorted({a + b + c for a in "abcdefg" for b in "abcdef" for c in "abcdef"})
@@ -68,12 +68,7 @@ class DeedsOf(unittest.TestCase):
     def test_programs_by_chance(self):
         for seed in range(150):
             program = Maker(seed, deeds=("a", "ab", "b", "ba", "z"), depth=5).program()
-            found = set()
-            for item in program:
-                bodies = [item[4]] if item[0] == "def" else [clause[3] for clause in item[2]] + [item[3][2]]
-                found |= {clause[0] for clause in item[2]} if item[0] == "handler" else set()
-                found |= {part[1] for body in bodies for part in nested_parts(body) if part[0] == "do"}
-            self.assertEqual(deeds_of(program), sorted(found))
+            self.assertEqual(deeds_of(program), all_deeds(program))
 
     def test_many_and_deep(self):
         program = tuple(("def", "f", (), None, ("do", deed, ("num", 1))) for deed in reversed(MANY))

@@ -6,7 +6,7 @@ import unittest
 from deedwright.checks import check
 from deedwright.errors import NoCount, NoGo, NoName, WrightError
 from deedwright.trees import FORMS
-from helper import CheckCase, Maker
+from helper import CheckCase, Maker, direct_parts
 
 G = "(def g (x) x)"
 H = "(handler h (on d x s 1) (end x s x))"
@@ -105,30 +105,29 @@ class FirstOfTwo(CheckCase):
 
 def wrongs_of_expression(tree, known, block, place, items):
     """The refusals that an expression meets, in their order, as point 7 tells them."""
-    def named(name, kind):
+    def items_named(name, kind):
         return [item for item in items if item[0] == kind and item[1] == name]
 
     kind = tree[0]
     if kind == "var" and tree[1] not in known:
         yield NoName
     if kind == "call":
-        takes = [(1, None)] if tree[1] == block else [(len(f[2]), f[3]) for f in named(tree[1], "def")]
+        takes = [(1, None)] if tree[1] == block else [(len(f[2]), f[3]) for f in items_named(tree[1], "def")]
         if not takes:
             yield NoName
         if tree[2] is not None and tree[2] != block:
-            if not [g for g in named(tree[2], "def") if len(g[2]) == 1 and g[3] is None]:
+            if not [g for g in items_named(tree[2], "def") if len(g[2]) == 1 and g[3] is None]:
                 yield NoName
         if takes and (len(tree[3]) != takes[0][0] or (tree[2] is None) != (takes[0][1] is None)):
             yield NoCount
     if kind == "handle":
-        if not named(tree[1], "handler"):
+        if not items_named(tree[1], "handler"):
             yield NoName
         if place == "end":
             yield NoGo
     if kind == "go" and place != "clause":
         yield NoGo
-    parts = tree[3] if kind == "call" else [thing for thing in tree[1:] if isinstance(thing, tuple)]
-    for at, part in enumerate(parts):
+    for at, part in enumerate(direct_parts(tree)):
         more = (tree[1],) if kind == "let" and at == 1 else ()
         inside = "handled" if kind == "handle" and at == 1 and place == "clause" else place
         yield from wrongs_of_expression(part, known + more, block, inside, items)

@@ -1,0 +1,64 @@
+"""What is left of the deeds of each item when the handles in its bodies have answered theirs.
+
+No deed comes out of a part that stands in the handled b of a handle whose handler has a clause
+for it: rows and ways both hang on this, and on nothing else of where a part stands.
+"""
+
+from deedwright.bits import bits_by_deed, less
+from deedwright.trees import bodies_of, parts_of
+
+
+class Rest:
+    """What is left of an item.
+
+    block is the name of its own block, or None; done the row of the deeds that its bodies do and
+    that come out of them; uses has a pair (tree, answered) for each call and each handle in them:
+    answered is the row of the deeds of it that don't come out.
+    """
+
+    def __init__(self, block):
+        self.block = block
+        self.done = 0
+        self.uses = []
+
+
+def rests_of(program, deeds):
+    """What is left of each item, by the items' names in their order."""
+    bits = bits_by_deed(deeds)
+    clauses = clause_rows(program, bits)
+    rests = {}
+    for item in program:
+        rests[item[1]] = rest_of(item, clauses, bits)
+    return rests
+
+
+def clause_rows(program, bits):
+    """For each handler the row of the deeds that it has a clause for."""
+    rows = {}
+    for item in program:
+        if item[0] == "handler":
+            rows[item[1]] = sum([bits[clause[0]] for clause in item[2]])
+    return rows
+
+
+def rest_of(item, clauses, bits):
+    """What is left of an item."""
+    rest = Rest(item[3] if item[0] == "def" else None)
+    waiting = [(body, 0) for body in bodies_of(item)]
+    while waiting != []:
+        looked = waiting.pop()
+        tree = looked[0]
+        answered = looked[1]
+        if tree[0] == "do":
+            rest.done = rest.done | less(bits[tree[1]], answered)
+        if tree[0] in ("call", "handle"):
+            rest.uses.append((tree, answered))
+        waiting.extend(inner(tree, answered, clauses))
+    return rest
+
+
+def inner(tree, answered, clauses):
+    """The parts of an expression, each with the row of the deeds that are answered round it."""
+    if tree[0] == "handle":
+        return [(tree[2], answered), (tree[3], answered | clauses[tree[1]])]
+    return [(part, answered) for part in parts_of(tree)]
