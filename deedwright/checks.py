@@ -132,3 +132,17 @@ def is_function(name, items):
 def may_be_handed(name, items):
     """Whether a name is that of a function that may be handed on: one param and no block."""
     return is_function(name, items) and len(items[name][2]) == 1 and items[name][3] is None
+
+
+def begun_at(f, items):
+    """The function of a name where a run may begin: one without block; NoName where there is none."""
+    if not is_function(f, items) or items[f][3] is not None:
+        raise NoName(f"{f} is no function without block")
+    return items[f]
+
+
+def check_numbers(function, numbers):
+    """Refuses another number of numbers than a function has params."""
+    if len(numbers) != len(function[2]):
+        name = function[1]
+        raise NoCount(f"{name} is begun with too few or too many numbers")

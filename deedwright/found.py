@@ -4,18 +4,32 @@ Within this file rows are open rows of whole numbers, in dicts by the items' nam
 the same as lists of deeds.
 """
 
-from deedwright.bits import deeds_of, row_by, told
+from deedwright.bits import bits_by_deed, deeds_of, row_by, told
 from deedwright.openrows import filled, joined, opened, within, without
-from deedwright.rest import rests_of
+from deedwright.rest import clause_rows, rest_of, rests_of
+
+
+class Found:
+    """The found rows of a program, with what the rows of its expressions are found by.
+
+    deeds is the list of its deeds, every the row of all of them, clauses has for each handler the
+    row of the deeds that it has a clause for, rows the items' open rows.
+    """
+
+    def __init__(self, program):
+        self.deeds = deeds_of(program)
+        self.every = row_by(self.deeds, self.deeds)
+        self.clauses = clause_rows(program, bits_by_deed(self.deeds))
+        self.rows = found_rows(program, self.deeds)
 
 
 def open_rows(program):
     """The found table: for each item the sorted lists of its own deeds and of those that it lets."""
-    deeds = deeds_of(program)
-    rows = found_rows(program, deeds)
+    found = Found(program)
     table = {}
-    for name in rows:
-        table[name] = (told(rows[name][0], deeds), told(rows[name][1], deeds))
+    for name in found.rows:
+        row = found.rows[name]
+        table[name] = (told(row[0], found.deeds), told(row[1], found.deeds))
     return table
 
 
@@ -31,10 +45,8 @@ def fits(program, table):
 
 def row_of(program, name, block=None):
     """The sorted list of an item's row, where for its block, if it has one, a function is handed on."""
-    deeds = deeds_of(program)
-    rows = found_rows(program, deeds)
-    handed = 0 if block is None else rows[block][0]
-    return told(filled(rows[name], handed), deeds)
+    found = Found(program)
+    return told(spot_row(found, name, block), found.deeds)
 
 
 def found_rows(program, deeds):
@@ -65,6 +77,17 @@ def bodies_row(rest, rows, every):
     for tree, answered in rest.uses:
         row = joined(row, without(use_row(tree, rest.block, rows, every), answered))
     return row
+
+
+def tree_row(found, tree, block):
+    """The open row of an expression by the found rows, block being the own block there, or None."""
+    rest = rest_of((tree,), block, found.clauses, bits_by_deed(found.deeds))
+    return bodies_row(rest, found.rows, found.every)
+
+
+def spot_row(found, name, handed):
+    """The row of an item, where for its block, if it has one, a function is handed on, else None."""
+    return filled(found.rows[name], 0 if handed is None else found.rows[handed][0])
 
 
 def use_row(tree, block, rows, every):

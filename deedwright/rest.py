@@ -1,19 +1,19 @@
-"""What is left of the deeds of each item when the handles in its bodies have answered theirs.
+"""What is left of the deeds of bodies when the handles in them have answered theirs.
 
 No deed comes out of a part that stands in the handled b of a handle whose handler has a clause
 for it: rows and ways both hang on this, and on nothing else of where a part stands.
 """
 
 from deedwright.bits import bits_by_deed, less
-from deedwright.trees import bodies_of, parts_of
+from deedwright.trees import bodies_of, own_block, parts_of
 
 
 class Rest:
-    """What is left of an item.
+    """What is left of some bodies, those of an item or others.
 
-    block is the name of its own block, or None; done the row of the deeds that its bodies do and
-    that come out of them; uses has a pair (tree, answered) for each call and each handle in them:
-    answered is the row of the deeds of it that don't come out.
+    block is the name of the own block there, or None; done the row of the deeds that the bodies do
+    and that come out of them; uses has a pair (tree, answered) for each call and each handle in
+    them: answered is the row of the deeds of it that don't come out.
     """
 
     def __init__(self, block):
@@ -28,7 +28,7 @@ def rests_of(program, deeds):
     clauses = clause_rows(program, bits)
     rests = {}
     for item in program:
-        rests[item[1]] = rest_of(item, clauses, bits)
+        rests[item[1]] = rest_of(bodies_of(item), own_block(item), clauses, bits)
     return rests
 
 
@@ -41,10 +41,10 @@ def clause_rows(program, bits):
     return rows
 
 
-def rest_of(item, clauses, bits):
-    """What is left of an item."""
-    rest = Rest(item[3] if item[0] == "def" else None)
-    waiting = [(body, 0) for body in bodies_of(item)]
+def rest_of(bodies, block, clauses, bits):
+    """What is left of bodies where a block is known, or None."""
+    rest = Rest(block)
+    waiting = [(body, 0) for body in bodies]
     while waiting != []:
         looked = waiting.pop()
         tree = looked[0]

@@ -61,6 +61,19 @@ def bodies_of(item):
     return tuple([clause[3] for clause in item[2]]) + (item[3][2],)
 
 
+def own_block(item):
+    """The name of an item's block, or None: a handler has none."""
+    return item[3] if item[0] == "def" else None
+
+
+def stands_for(name, block):
+    """What a name that is called or handed on, or None, stands for.
+
+    block is a pair: the name of the own block there and the function that was handed on, or None twice.
+    """
+    return block[1] if name == block[0] else name
+
+
 def items_by_name(program):
     """The items of a program by their names."""
     return dict([(item[1], item) for item in program])

@@ -7,6 +7,7 @@ from deedwright.bits import deeds_of, row_by
 from deedwright.errors import Lacking
 from deedwright.found import row_of
 from deedwright.rest import rests_of
+from deedwright.trees import stands_for
 
 
 def let_by(program, f, hands=None):
@@ -60,6 +61,4 @@ def used_spot(tree, block, handed):
     """The spot that a call or a handle is of, where handed is what the own block stands for."""
     if tree[0] == "handle":
         return ("handler", tree[1], None)
-    if tree[1] == block:
-        return ("def", handed, None)
-    return ("def", tree[1], handed if tree[2] == block else tree[2])
+    return ("def", stands_for(tree[1], (block, handed)), stands_for(tree[2], (block, handed)))

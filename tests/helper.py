@@ -6,7 +6,9 @@ import unittest
 
 from deedwright.checks import check
 from deedwright.errors import NoText
+from deedwright.found import open_rows
 from deedwright.reader import read
+from deedwright.walk import begun, gone_on, run
 
 WORDS = "def handler on end let if call hand do handle go guard".split()
 END = "(end x s x)"
@@ -50,6 +52,44 @@ class CheckCase(unittest.TestCase):
             with self.assertRaises(ValueError) as caught:
                 check(read(text))
             self.assertIs(type(caught.exception), kind)
+
+
+class RunCase(unittest.TestCase):
+    """Asks how runs end, of a program told by its text, and looks at them from all sides.
+
+    Each run that is asked for is held against the second writing of the points too, and is done with
+    all lower bounds of turns, and answer by answer.
+    """
+
+    def ends(self, text, end, numbers=(), answers=(), turns=2000, f="f", record=None, used=None):
+        program = read(text)
+        with self.subTest(text=text[:300], numbers=numbers, answers=answers, turns=turns):
+            self.assertIsNone(check(program))
+            whole = run(program, f, list(numbers), list(answers), turns)
+            self.assertEqual(whole[0], end)
+            if record is not None:
+                self.assertEqual(whole[1], record)
+            if used is not None:
+                self.assertEqual(whole[2], used)
+            self.looked_at(program, f, numbers, answers, turns, whole)
+
+    def looked_at(self, program, f, numbers, answers, turns, whole):
+        if whole[2] > 200:
+            return
+        self.assertEqual(second_run(program, f, numbers, answers, turns), whole)
+        needed = whole[2] + (whole[0] == ("spent",))
+        for bound in range(needed):
+            spent = run(program, f, list(numbers), list(answers), bound)
+            self.assertEqual((spent[0], spent[2]), (("spent",), bound))
+            self.assertEqual(spent[1], whole[1][: len(spent[1])])
+            self.assertEqual(second_run(program, f, numbers, answers, bound), spent)
+        halt = begun(program, f, list(numbers), turns)
+        for count in range(len(answers) + 1):
+            expected = run(program, f, list(numbers), list(answers[:count]), turns)
+            self.assertEqual((halt.end, halt.record, halt.used), expected)
+            if halt.end[0] != "asks" or count == len(answers):
+                break
+            halt = gone_on(halt, answers[count])
 
 
 # From here to the Maker the points are written once more, apart from the program, to hold it against.
@@ -206,11 +246,353 @@ def is_way(program, spot, deed, way):
     return leads_to(program, way[-1], deed)[1]
 
 
-class Maker:
-    """Makes programs by chance, the same ones for the same seed, that check lets by."""
+def goes_in_order(tree, at=()):
+    """The places of the goes of an expression, in the order in which their rows stand (points 21, 23)."""
+    places = [place for k, part in enumerate(direct_parts(tree)) for place in goes_in_order(part, at + (k,))]
+    return places + [at] if tree[0] == "go" else places
 
-    def __init__(self, seed, deeds=("a", "b", "c"), functions=3, handlers=2, depth=4, blocks=True):
+
+def ways_through(tree, at=()):
+    """All ways through an expression, each as a tuple of the places of the goes done on it (point 21)."""
+    inner = [ways_through(part, at + (k,)) for k, part in enumerate(direct_parts(tree))]
+    if tree[0] == "if":
+        inner = [inner[0], inner[1] + inner[2]]
+    ways = {sum(chosen, ()) for chosen in itertools.product(*inner)}
+    return sorted(way + (at,) if tree[0] == "go" else way for way in ways)
+
+
+def second_lasts(tree):
+    """For each go of a clause's body whether it is last (point 21)."""
+    ways = ways_through(tree)
+    return [all(place not in way[:-1] for way in ways) for place in goes_in_order(tree)]
+
+
+def body_ends_at_go(tree):
+    """Whether a clause's body ends at a go (point 21)."""
+    if tree[0] == "go":
+        return len(goes_in_order(tree)) == 1
+    if tree[0] == "let":
+        return not goes_in_order(tree[2]) and body_ends_at_go(tree[3])
+    return tree[0] == "if" and not goes_in_order(tree[1]) and all(map(body_ends_at_go, tree[2:]))
+
+
+def second_kind(tree):
+    """Of a clause's body: never, jump, once or many (point 21)."""
+    if not goes_in_order(tree):
+        return "never"
+    if body_ends_at_go(tree):
+        return "jump"
+    return "once" if all(second_lasts(tree)) else "many"
+
+
+class SecondCode:
+    """Points 22 and 23 once more: the parts of code by keys in the place of numbers.
+
+    A key is ("def", f, g), ("on", h, d), ("end", h, None), or ("body", h, None, key, place) for the
+    handle at a place in the part of a key.
+    """
+
+    def __init__(self, program, taken):
+        self.program = program
+        self.taken = [tuple(pair) for pair in taken or ()]
+        self.table = open_rows(program)
+        self.trees = {}
+
+    def part(self, key):
+        """The tree of a part, the variables known there, and what the own block stands for."""
+        if key[0] == "def":
+            item = named(self.program, key[1])
+            return item[4], item[2], {} if item[3] is None else {item[3]: key[2]}
+        if key[0] == "body":
+            return self.trees[key]
+        item = named(self.program, key[1])
+        x, s, body = item[3] if key[0] == "end" else [clause[1:] for clause in item[2] if clause[0] == key[2]][0]
+        return body, (x, s), {}
+
+    def deeds(self, key):
+        tree, known, block = self.part(key)
+        if key[0] in ("on", "end"):
+            return self.table[key[1]][0]
+        handed = set().union(*[self.table[g][0] for g in block.values()])
+        if key[0] == "def":
+            own, lets = self.table[key[1]]
+            return sorted(set(own) | set(lets) & handed)
+        return sorted(comes_out(tree, self.program, self.table, (list(block) + [None])[0], handed))
+
+    def is_jump(self, h, d):
+        body = self.part(("on", h, d))[0]
+        return second_kind(body) == "jump" and (h, d) not in self.taken
+
+    def rows(self, key):
+        tree, known, block = self.part(key)
+        rows = self.tree_rows(key, tree, known, block, 0, ())
+        goes = ()
+        if key[0] == "on":
+            goes = [("go", last) for last in second_lasts(tree)]
+            goes = [("jump",)] * len(goes) if self.is_jump(*key[1:]) else goes
+        goes = iter(goes)
+        return [next(goes) if row == "go" else row for row in rows] + [("give",)]
+
+    def tree_rows(self, key, tree, known, block, base, at):
+        rows = []
+
+        def add(k, part, more=()):
+            rows.extend(self.tree_rows(key, part, known + more, block, base + len(rows), at + (k,)))
+
+        if tree[0] == "let":
+            add(0, tree[2])
+            rows.append(("keep",))
+            add(1, tree[3], (tree[1],))
+            return rows + [("drop",)]
+        if tree[0] == "if":
+            add(0, tree[1])
+            rows.append(None)
+            unless = len(rows) - 1
+            add(1, tree[2])
+            rows.append(None)
+            skip = len(rows) - 1
+            add(2, tree[3])
+            rows[unless], rows[skip] = ("unless", base + skip + 1), ("skip", base + len(rows))
+            return rows
+        if tree[0] == "guard":
+            add(0, tree[1])
+            rows.append(("guard",))
+            add(1, tree[2])
+            return rows + [("clean",)]
+        for k, part in enumerate(direct_parts(tree)[:1] if tree[0] == "handle" else direct_parts(tree)):
+            add(k, part)
+        return rows + [self.row(key, tree, known, block, at)]
+
+    def row(self, key, tree, known, block, at):
+        own = self.deeds(key)
+        if tree[0] == "var":
+            return ("get", len(known) - 1 - known[::-1].index(tree[1]))
+        if tree[0] == "do":
+            return ("do", own.index(tree[1]))
+        if tree[0] == "call":
+            called = ("def", block.get(tree[1], tree[1]), block.get(tree[2], tree[2]))
+            return ("call", called, len(tree[3]), tuple(own.index(deed) for deed in self.deeds(called)))
+        if tree[0] == "handle":
+            inner = ("body", tree[1], None, key, at)
+            self.trees[inner] = tree[3], known, block
+            answered = clause_deeds(self.program, tree[1])
+            needs = tuple(own.index(deed) for deed in self.table[tree[1]][0])
+            picks = tuple(-1 if deed in answered else own.index(deed) for deed in self.deeds(inner))
+            return ("under", tree[1], inner, needs, picks)
+        return {"num": tree, "op": tree[:2], "go": "go"}[tree[0]]
+
+
+def code_fault(program, f, taken, code):
+    """What is wrong of a function's code, or None (points 22 and 23); the order of parts is free."""
+    second = SecondCode(program, taken)
+    parts, handlers = code
+    part_at, handler_at = {("def", f, None): 0}, {}
+    waiting = [("def", f, None)]
+
+    def meet(places, key, number):
+        if key not in places:
+            if number in places.values():
+                return False
+            places[key] = number
+            waiting.append(key)
+        return places[key] == number
+
+    while waiting:
+        key = waiting.pop()
+        if isinstance(key, str):
+            clauses = [clause[0] for clause in named(program, key)[2]]
+            h, deeds, made, end = handlers[handler_at[key]]
+            kinds = tuple((d, "jump" if second.is_jump(h, d) else "take") for d in clauses)
+            if (h, deeds, tuple(clause[:2] for clause in made)) != (key, tuple(second.table[key][0]), kinds):
+                return f"handler {key}"
+            met = [meet(part_at, ("on", key, d), clause[2]) for d, clause in zip(clauses, made)]
+            if not all(met + [meet(part_at, ("end", key, None), end)]):
+                return f"parts of the handler {key}"
+            continue
+        label, deeds, rows = parts[part_at[key]]
+        expected = second.rows(key)
+        if label != key[:3] or deeds != tuple(second.deeds(key)) or len(rows) != len(expected):
+            return f"part {key}"
+        for row, other in zip(rows, expected):
+            met = True
+            if other[0] == "call":
+                met = meet(part_at, other[1], row[1])
+                row, other = row[:1] + row[2:], other[:1] + other[2:]
+            if other[0] == "under":
+                met = meet(handler_at, other[1], row[1]) and meet(part_at, other[2], row[2])
+                row, other = row[:1] + row[3:], other[:1] + other[3:]
+            # By their repr, which tells tuples from lists and 1 from True.
+            if not met or repr(row) != repr(other):
+                return f"row {row} of part {key}"
+    return None if (len(part_at), len(handler_at)) == (len(parts), len(handlers)) else "parts that are not come to"
+
+
+class Over(Exception):
+    """A run's end."""
+
+
+class SecondRun:
+    """Points 16 to 19 once more: an expression is done to what comes of it.
+
+    That is ("told", number), or, where it can't be gone on with from within, ("do", d, number, on, clean)
+    or ("go", a, s, on, clean): on gives what comes of it with an answer, clean cleans its guards.
+    """
+
+    def __init__(self, program, answers, turns):
+        self.program, self.answers, self.turns = program, list(answers), turns
+        self.record, self.used = [], 0
+
+    def turn(self):
+        if self.used == self.turns:
+            raise Over("spent")
+        self.used += 1
+
+    def whole(self, f, numbers):
+        try:
+            item = named(self.program, f)
+            out = self.tree(item[4], dict(zip(item[2], numbers)), {})
+            while out[0] != "told":
+                if not self.answers:
+                    raise Over("asks", out[1], out[2])
+                out = out[3](self.answers.pop(0))
+            raise Over("done", out[1])
+        except Over as over:
+            return over.args, self.record, self.used
+
+    def behind(self, out, then, clean=None):
+        """What comes of something with then behind it; clean cleans what is guarded round it."""
+        if out[0] == "told":
+            return then(out[1])
+
+        def cleaned():
+            out[4]()
+            if clean is not None:
+                clean()
+
+        return out[:3] + (lambda answer: self.behind(out[3](answer), then, clean), cleaned)
+
+    def parts(self, trees, env, block, then, numbers=()):
+        """What comes of several expressions, one behind another, with then behind them."""
+        if len(numbers) == len(trees):
+            return then(*numbers)
+        out = self.tree(trees[len(numbers)], env, block)
+        return self.behind(out, lambda number: self.parts(trees, env, block, then, numbers + (number,)))
+
+    def tree(self, tree, env, block):
+        def within(part, **more):
+            return self.tree(part, {**env, **more}, block)
+
+        if tree[0] == "num":
+            return ("told", tree[1])
+        if tree[0] == "var":
+            return ("told", env[tree[1]])
+        if tree[0] == "op":
+            return self.parts(tree[2:], env, block, lambda a, b: self.op(tree[1], a, b))
+        if tree[0] == "let":
+            return self.behind(within(tree[2]), lambda a: within(tree[3], **{tree[1]: a}))
+        if tree[0] == "if":
+            return self.behind(within(tree[1]), lambda c: within(tree[2] if c != 0 else tree[3]))
+        if tree[0] == "guard":
+            return self.behind(within(tree[1]), lambda c: self.guard(c, lambda: within(tree[2])))
+        if tree[0] == "call":
+            return self.parts(tree[3], env, block, lambda *numbers: self.call(tree, block, numbers))
+        if tree[0] == "handle":
+            return self.behind(within(tree[2]), lambda s: self.under(tree[1], s, within(tree[3])))
+        return self.parts(tree[-2:] if tree[0] == "go" else tree[-1:], env, block, lambda *all: self.asked(tree, all))
+
+    def op(self, sign, a, b):
+        number = {"+": a + b, "-": a - b, "*": a * b, "<": int(a < b)}[sign]
+        if not -10**18 <= number <= 10**18:
+            raise Over("great")
+        return ("told", number)
+
+    def guard(self, number, b):
+        self.record.append(("guard", number))
+
+        def clean():
+            self.record.append(("clean", number))
+
+        def told(answer):
+            clean()
+            return ("told", answer)
+
+        return self.behind(b(), told, clean)
+
+    def call(self, tree, block, numbers):
+        self.turn()
+        item = named(self.program, block.get(tree[1], tree[1]))
+        handed = {} if item[3] is None else {item[3]: block.get(tree[2], tree[2])}
+        return self.tree(item[4], dict(zip(item[2], numbers)), handed)
+
+    def asked(self, tree, numbers):
+        """A do or a go, when its parts are done."""
+        self.turn()
+        if tree[0] == "do":
+            self.record.append(("do", tree[1], numbers[0]))
+        names = (tree[1],) if tree[0] == "do" else ()
+        return (tree[0],) + names + numbers + (lambda answer: ("told", answer), lambda: None)
+
+    def under(self, h, kept, out):
+        """What comes of something under a handler."""
+        item = named(self.program, h)
+        if out[0] == "told":
+            return self.tree(item[3][2], {item[3][0]: out[1], item[3][1]: kept}, {})
+        for d, x, s, body in item[2]:
+            if d == out[1]:
+                return self.clause(self.tree(body, {x: out[2], s: kept}, {}), h, out, False)
+        return out[:3] + (lambda answer: self.under(h, kept, out[3](answer)), out[4])
+
+    def clause(self, out, h, held, went):
+        """What comes of a clause of a handler, out being what came of its body so far."""
+        if out[0] == "told":
+            if not went:
+                held[4]()
+            return out
+        if out[0] == "go":
+            gone = self.under(h, out[2], held[3](out[1]))
+            return self.behind(gone, lambda number: self.clause(out[3](number), h, held, True), out[4])
+
+        def clean():
+            out[4]()
+            if not went:
+                held[4]()
+
+        return out[:3] + (lambda answer: self.clause(out[3](answer), h, held, went), clean)
+
+
+def second_run(program, f, numbers, answers, turns):
+    """The end, the record and the turns taken of a run (points 16 to 19)."""
+    return SecondRun(program, answers, turns).whole(f, numbers)
+
+
+KINDS = ("op", "let", "if", "call", "call", "call", "do", "do", "guard")
+# Of these programs are made that come further, and do more deeds, ahead of their turns' end.
+LIVELY = ("op", "op", "let", "if", "call", "do", "do", "do", "do", "guard", "guard")
+
+
+class Maker:
+    """Makes programs by chance, the same ones for the same seed, that check lets by.
+
+    kinds are the expressions that are made everywhere, answers how likely a handler answers a deed,
+    goes how many times likelier a go stands in a clause than another expression.
+    """
+
+    def __init__(
+        self,
+        seed,
+        deeds=("a", "b", "c"),
+        functions=3,
+        handlers=2,
+        depth=4,
+        blocks=True,
+        kinds=KINDS,
+        answers=0.4,
+        goes=2,
+    ):
         self.chance = random.Random(seed)
+        self.kinds = kinds
+        self.answers = answers
+        self.goes = goes
         self.deeds = deeds
         self.depth = depth
         self.handlers = ["h" + letter for letter in "abcdefgh"[:handlers]]
@@ -229,8 +611,19 @@ class Maker:
         self.chance.shuffle(items)
         return tuple(items)
 
+    def handled(self):
+        """A program with one function more, m, whose body is handled by every handler, often by some twice."""
+        program = self.program()
+        body = self.body(("x",), None, "free", self.depth)
+        for h in self.handlers + self.chance.choices(self.handlers, k=2):
+            s = self.leaf(("x",))
+            body = ("handle", h, s, body)
+            if self.chance.random() < 0.5:
+                body = self.chance.choice((("guard", s, body), ("op", "+", body, ("do", self.deeds[0], s))))
+        return program + (("def", "m", ("x",), None, body),)
+
     def handler(self, name):
-        deeds = [deed for deed in self.deeds if self.chance.random() < 0.4]
+        deeds = [deed for deed in self.deeds if self.chance.random() < self.answers]
         clauses = [(deed, "x", "s", self.body(("x", "s"), None, "clause", self.depth - 1)) for deed in deeds]
         return ("handler", name, tuple(clauses), ("x", "s", self.body(("x", "s"), None, "end", self.depth - 2)))
 
@@ -242,9 +635,9 @@ class Maker:
         def part():
             return self.body(known, block, place, depth - 1)
 
-        kinds = ["op", "let", "if", "call", "call", "call", "do", "do", "guard"]
+        kinds = list(self.kinds)
         kinds += ["handle", "handle"] if place != "end" and self.handlers else []
-        kinds += ["go", "go"] if place == "clause" else []
+        kinds += ["go"] * self.goes if place == "clause" else []
         kind = self.chance.choice(kinds)
         if kind == "op":
             return ("op", self.chance.choice("+-*<"), part(), part())
