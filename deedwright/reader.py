@@ -6,11 +6,9 @@ one pair of brackets.
 """
 
 from deedwright.errors import NoText
-from deedwright.trees import CLAUSE_FORM, END_FORM, FORMS, SIGNS, is_name
+from deedwright.trees import CLAUSE_FORM, END_FORM, FORMS, SIGNS, is_name, is_number
 
 DEEPEST = 24
-FIGURES = "0123456789"
-MOST_FIGURES = 18
 
 # Of these the text has the same things, in the same order, as the tuple.
 ALIKE = ("let", "if", "do", "handle", "go", "guard")
@@ -155,10 +153,3 @@ def name_of(thing):
     if not is_name(thing):
         raise NoText(f"{thing!r} is no name")
     return thing
-
-
-def is_number(word):
-    """Whether a word writes a number."""
-    if len(word) > MOST_FIGURES or (word[0] == "0" and word != "0"):
-        return False
-    return all([sign in FIGURES for sign in word])

@@ -10,6 +10,8 @@ WORDS = ("def", "handler", "on", "end", "let", "if", "call", "hand", "do", "hand
 SIGNS = ("+", "-", "*", "<")
 LETTERS = "abcdefghijklmnopqrstuvwxyz"
 LONGEST_NAME = 8
+FIGURES = "0123456789"
+MOST_FIGURES = 18
 
 # A "part" is an expression, "parts" a tuple of them, a "block" a name or None.
 FORMS = {
@@ -35,11 +37,25 @@ def is_name(word):
     return all([sign in LETTERS for sign in word])
 
 
+def is_number(word):
+    """Whether a text writes a number: by figures, no nought ahead but in 0 itself."""
+    if word == "" or len(word) > MOST_FIGURES or (word[0] == "0" and word != "0"):
+        return False
+    return all([sign in FIGURES for sign in word])
+
+
 def parts_of(tree):
     """The parts of an expression, from left to right."""
     if tree[0] == "call":
         return tree[3]
     return tuple([thing for kind, thing in zip(FORMS[tree[0]], tree[1:]) if kind == "part"])
+
+
+def with_parts(tree, parts):
+    """An expression with other parts, as many as it has, in the place of its own."""
+    if tree[0] == "call":
+        return tree[:3] + (tuple(parts),)
+    return tree[: len(tree) - len(parts)] + tuple(parts)
 
 
 def all_within(tree):
@@ -59,6 +75,14 @@ def bodies_of(item):
     if item[0] == "def":
         return (item[4],)
     return tuple([clause[3] for clause in item[2]]) + (item[3][2],)
+
+
+def with_bodies(item, bodies):
+    """An item with other bodies, in the order of bodies_of, in the place of its own."""
+    if item[0] == "def":
+        return item[:4] + (bodies[0],)
+    clauses = [clause[:3] + (body,) for clause, body in zip(item[2], bodies)]
+    return item[:2] + (tuple(clauses), item[3][:2] + (bodies[-1],))
 
 
 def own_block(item):

@@ -5,8 +5,10 @@ import random
 import unittest
 
 from deedwright.checks import check
+from deedwright.code import code_of
 from deedwright.errors import NoText
 from deedwright.found import open_rows
+from deedwright.machine import run_code
 from deedwright.reader import read
 from deedwright.walk import begun, gone_on, run
 
@@ -57,8 +59,8 @@ class CheckCase(unittest.TestCase):
 class RunCase(unittest.TestCase):
     """Asks how runs end, of a program told by its text, and looks at them from all sides.
 
-    Each run that is asked for is held against the second writing of the points too, and is done with
-    all lower bounds of turns, and answer by answer.
+    Each run that is asked for is held against the second writing of the points and against that of its
+    code, with jumps and without, too, and is done with all lower bounds of turns, and answer by answer.
     """
 
     def ends(self, text, end, numbers=(), answers=(), turns=2000, f="f", record=None, used=None):
@@ -74,6 +76,9 @@ class RunCase(unittest.TestCase):
             self.looked_at(program, f, numbers, answers, turns, whole)
 
     def looked_at(self, program, f, numbers, answers, turns, whole):
+        codes = [code_of(program, f), code_of(program, f, all_clauses(program))]
+        for code in codes:
+            self.assertEqual(run_code(code, list(numbers), list(answers), turns)[:3], whole)
         if whole[2] > 200:
             return
         self.assertEqual(second_run(program, f, numbers, answers, turns), whole)
@@ -83,6 +88,8 @@ class RunCase(unittest.TestCase):
             self.assertEqual((spent[0], spent[2]), (("spent",), bound))
             self.assertEqual(spent[1], whole[1][: len(spent[1])])
             self.assertEqual(second_run(program, f, numbers, answers, bound), spent)
+            for code in codes:
+                self.assertEqual(run_code(code, list(numbers), list(answers), bound)[:3], spent)
         halt = begun(program, f, list(numbers), turns)
         for count in range(len(answers) + 1):
             expected = run(program, f, list(numbers), list(answers[:count]), turns)
@@ -563,6 +570,155 @@ class SecondRun:
 def second_run(program, f, numbers, answers, turns):
     """The end, the record and the turns taken of a run (points 16 to 19)."""
     return SecondRun(program, answers, turns).whole(f, numbers)
+
+
+class SecondMachine:
+    """Point 24 once more, with frames that are changed where they stand and copied one by one."""
+
+    def __init__(self, code, answers, turns):
+        self.parts, self.handlers = code
+        self.answers, self.turns = list(answers), turns
+        self.frames, self.record, self.used, self.copied = [], [], 0, 0
+
+    def whole(self, numbers):
+        self.put(0, list(numbers), [0] * len(self.parts[0][1]))
+        try:
+            while True:
+                frame = self.frames[-1]
+                row = self.parts[frame["part"]][2][frame["at"]]
+                frame["at"] += 1
+                getattr(self, "do_" + row[0])(frame, *row[1:])
+        except Over as over:
+            return over.args, self.record, self.used, self.copied
+
+    def put(self, part, known, who, **more):
+        self.frames.append({"part": part, "at": 0, "known": known, "told": [], "guards": [], "who": who, **more})
+
+    def place(self, number):
+        """The place in the row of the handler that stands by a number."""
+        return [at for at, frame in enumerate(self.frames) if "kept" in frame][number - 1]
+
+    def turn(self):
+        if self.used == self.turns:
+            raise Over("spent")
+        self.used += 1
+
+    def do_num(self, frame, number):
+        frame["told"].append(number)
+
+    def do_get(self, frame, at):
+        frame["told"].append(frame["known"][at])
+
+    def do_op(self, frame, sign):
+        b, a = frame["told"].pop(), frame["told"].pop()
+        number = {"+": a + b, "-": a - b, "*": a * b, "<": int(a < b)}[sign]
+        if abs(number) > 10**18:
+            raise Over("great")
+        frame["told"].append(number)
+
+    def do_keep(self, frame):
+        frame["known"].append(frame["told"].pop())
+
+    def do_drop(self, frame):
+        frame["known"].pop()
+
+    def do_unless(self, frame, at):
+        if frame["told"].pop() == 0:
+            frame["at"] = at
+
+    def do_skip(self, frame, at):
+        frame["at"] = at
+
+    def do_guard(self, frame):
+        frame["guards"].append(frame["told"].pop())
+        self.record.append(("guard", frame["guards"][-1]))
+
+    def do_clean(self, frame):
+        self.record.append(("clean", frame["guards"].pop()))
+
+    def do_call(self, frame, part, count, picks):
+        numbers = [frame["told"].pop() for number in range(count)][::-1]
+        self.turn()
+        self.put(part, numbers, [frame["who"][pick] for pick in picks])
+
+    def do_under(self, frame, handler, part, needs, picks):
+        kept = frame["told"].pop()
+        self.frames.append({"handler": handler, "kept": kept, "who": [frame["who"][need] for need in needs]})
+        number = len([one for one in self.frames if "kept" in one])
+        who = [number if pick == -1 else frame["who"][pick] for pick in picks]
+        self.put(part, list(frame["known"]), who)
+
+    def do_do(self, frame, place):
+        number, who, deed = frame["told"].pop(), frame["who"][place], self.parts[frame["part"]][1][place]
+        self.turn()
+        self.record.append(("do", deed, number))
+        if who == 0:
+            if not self.answers:
+                raise Over("asks", deed, number)
+            frame["told"].append(self.answers.pop(0))
+            return
+        at = self.place(who)
+        handler = self.frames[at]
+        ((kind, part),) = [clause[1:] for clause in self.handlers[handler["handler"]][2] if clause[0] == deed]
+        more = {"jumps": who}
+        if kind == "take":
+            more = {"held": self.frames[at:], "went": False, "marked": False}
+            self.frames = self.frames[:at]
+        self.put(part, [number, handler["kept"]], list(handler["who"]), **more)
+
+    def do_go(self, frame, last):
+        s, a = frame["told"].pop(), frame["told"].pop()
+        self.turn()
+        frame["went"] = True
+        held = frame["held"]
+        if not last or frame["marked"]:
+            held = [self.copy(one) for one in held]
+        held[0]["kept"] = s
+        held[-1]["told"].append(a)
+        self.frames += held
+
+    def copy(self, frame):
+        self.copied += 1
+        if "held" in frame:
+            frame["marked"] = True
+        return {key: list(value) if type(value) is list and key != "held" else value for key, value in frame.items()}
+
+    def do_jump(self, frame):
+        s, a = frame["told"].pop(), frame["told"].pop()
+        self.turn()
+        self.frames.pop()
+        self.frames[self.place(frame["jumps"])]["kept"] = s
+        self.frames[-1]["told"].append(a)
+
+    def do_give(self, frame):
+        (number,) = frame["told"]
+        self.frames.pop()
+        self.clean(frame)
+        if not self.frames:
+            raise Over("done", number)
+        beneath = self.frames[-1]
+        if "kept" in beneath:
+            self.frames.pop()
+            self.put(self.handlers[beneath["handler"]][3], [number, beneath["kept"]], list(beneath["who"]))
+        else:
+            beneath["told"].append(number)
+
+    def clean(self, frame):
+        """Cleans what a frame holds, where it is a clause's that never went on."""
+        if "held" in frame and not frame["went"]:
+            for one in reversed(frame["held"]):
+                self.record += [("clean", number) for number in reversed(one.get("guards", []))]
+                self.clean(one)
+
+
+def second_run_code(code, numbers, answers, turns):
+    """The end, the record, the turns taken and the frames copied of a run of code (point 24)."""
+    return SecondMachine(code, answers, turns).whole(numbers)
+
+
+def all_clauses(program):
+    """The pairs of a handler and a deed that it has a clause for."""
+    return [(item[1], clause[0]) for item in program if item[0] == "handler" for clause in item[2]]
 
 
 KINDS = ("op", "let", "if", "call", "call", "call", "do", "do", "guard")
