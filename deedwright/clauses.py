@@ -3,21 +3,21 @@
 from deedwright.trees import all_within, parts_of
 
 
-def kind_of(tree):
+def kind_of(E):
     """Of a clause's body: "never", "jump", "once" or "many"."""
-    if not has_go(tree):
+    if not has_go(E):
         return "never"
-    if ends_at_go(tree):
+    if ends_at_go(E):
         return "jump"
-    return "once" if all(lasts(tree)) else "many"
+    return "once" if all(lasts(E)) else "many"
 
 
-def lasts(tree):
+def lasts(E):
     """For each go of a clause's body, in the order of their rows in code, whether it is last."""
     # From the right to the left, each expression ahead of its parts: just the other way round than
     # their rows stand.
     found = []
-    waiting = [(tree, False)]
+    waiting = [(E, False)]
     while waiting != []:
         looked = waiting.pop()
         if looked[0][0] == "go":

@@ -97,7 +97,6 @@ def say_code(desk, words):
     f = name_said(words[0])
     turns = turns_said(words[1])
     at = words.index("/")
-    refuse_form(at >= 2)
     numbers = [number_said(word) for word in words[2:at]]
     answers = [number_said(word) for word in words[at + 1 :]]
     check_numbers(begun_at(f, items_by_name(desk.program)), numbers)

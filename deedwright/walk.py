@@ -1,8 +1,8 @@
 """Runs programs as trees.
 
-What is left to do is linked: None, or a pair (piece, what is left beneath it), the nearest piece
-first. A piece is a Doing, a body that is under way, or a Standing, a handler. In the same way, as
-None or a pair (nearest, others), a Doing links its tasks, its numbers and its variables.
+What is left to do is a row of pieces, the outermost first. A piece is a Doing, a body that is under
+way, or a Standing, a handler. A Doing has its tasks, its numbers and its variables linked: None, or
+a pair of the next or last one and what is linked to it.
 A task is an expression that is to be done, or ("then", tree) where the parts that are done ahead
 of a tree are done, ("drop",) where a let's variable is no longer known, ("clean", number).
 
@@ -30,14 +30,18 @@ class Halt:
 
 
 class Walk:
-    """A run: its program, what is under way and what is left beneath that, and what came of it so far."""
+    """A run: its program, what is under way, what is left beneath that, and what came of it so far.
+
+    left is the list of the pieces beneath, standing that of the places in it where a handler stands.
+    """
 
     def __init__(self, named, clauses, bound):
         self.named = named
         self.clauses = clauses
         self.bound = bound
         self.doing = None
-        self.left = None
+        self.left = []
+        self.standing = []
         self.record = []
         self.used = 0
         self.end = None
@@ -47,8 +51,8 @@ class Doing:
     """A body that is under way.
 
     block is a pair: the name of the own block and the function that was handed on, or None twice.
-    held is, of a clause, the tuple of the pieces that it holds, from the do outward, else None;
-    went is whether a go was done.
+    held is, of a clause, the list of the pieces that it holds, its handler first and that of the do
+    last, else None; went is whether a go was done.
     """
 
     def __init__(self, body, known, block, held):
@@ -123,7 +127,8 @@ def walk_copied(walk):
     """A run that stands where another one does, and goes on apart from it."""
     other = Walk(walk.named, walk.clauses, walk.bound)
     other.doing = doing_copied(walk.doing)
-    other.left = walk.left
+    other.left = list(walk.left)
+    other.standing = list(walk.standing)
     other.record = list(walk.record)
     other.used = walk.used
     return other
@@ -259,7 +264,7 @@ def then_call(walk, tree):
     if took_turn(walk):
         function = walk.named[stands_for(tree[1], doing.block)]
         block = (function[3], stands_for(tree[2], doing.block))
-        walk.left = (doing, walk.left)
+        walk.left.append(doing)
         walk.doing = Doing(function[4], linked(function[2], numbers), block, None)
 
 
@@ -267,7 +272,8 @@ def then_handle(walk, tree):
     """Puts a handler on top of the body under way, and begins what is handled."""
     doing = walk.doing
     handler = Standing(tree[1], taken(doing, 1)[0])
-    walk.left = (handler, (doing, walk.left))
+    walk.standing.append(len(walk.left) + 1)
+    walk.left.extend([doing, handler])
     walk.doing = Doing(tree[3], doing.known, doing.block, None)
 
 
@@ -278,19 +284,24 @@ def then_do(walk, tree):
     if not took_turn(walk):
         return
     walk.record.append(("do", deed, number))
-    held = [walk.doing]
-    left = walk.left
-    while left is not None:
-        piece = left[0]
-        held.append(piece)
-        left = left[1]
-        if isinstance(piece, Standing) and (piece.name, deed) in walk.clauses:
-            clause = walk.clauses[(piece.name, deed)]
-            known = linked(clause[1:3], (number, piece.kept))
-            walk.left = left
-            walk.doing = Doing(clause[3], known, (None, None), tuple(held))
-            return
-    walk.end = ("asks", deed, number)
+    at = len(walk.standing) - 1
+    while at >= 0 and (walk.left[walk.standing[at]].name, deed) not in walk.clauses:
+        at = at - 1
+    if at < 0:
+        walk.end = ("asks", deed, number)
+    else:
+        held = taken_off(walk, at)
+        clause = walk.clauses[(held[0].name, deed)]
+        walk.doing = Doing(clause[3], linked(clause[1:3], (number, held[0].kept)), (None, None), held)
+
+
+def taken_off(walk, at):
+    """Takes off all from one of the standing handlers on, what is under way too, and gives it."""
+    place = walk.standing[at]
+    held = walk.left[place:] + [walk.doing]
+    walk.left = walk.left[:place]
+    walk.standing = walk.standing[:at]
+    return held
 
 
 def then_go(walk, tree):
@@ -299,12 +310,19 @@ def then_go(walk, tree):
     pair = taken(doing, 2)
     if took_turn(walk):
         doing.went = True
-        held = doing.held
-        walk.left = (Standing(held[-1].name, pair[1]), (doing, walk.left))
-        for piece in reversed(held[1:-1]):
-            walk.left = (piece, walk.left)
-        walk.doing = doing_copied(held[0])
+        walk.left.append(doing)
+        put_on(walk, doing.held, pair[1])
+        walk.doing = doing_copied(doing.held[-1])
         put(walk.doing, pair[0])
+
+
+def put_on(walk, held, kept):
+    """Puts what is held, but that of the do, on what is left, its handler with another kept number."""
+    at = len(walk.left)
+    places = [at + place for place, piece in enumerate(held) if isinstance(piece, Standing)]
+    walk.standing.extend(places)
+    walk.left.append(Standing(held[0].name, kept))
+    walk.left.extend(held[1:-1])
 
 
 # What is done of each expression when the parts ahead of it are done.
@@ -325,12 +343,12 @@ def leave(walk):
     number = walk.doing.numbers[0]
     if holds_alone(walk.doing):
         throw_away(walk.doing.held, walk.record)
-    if walk.left is None:
+    if walk.left == []:
         walk.end = ("done", number)
         return
-    piece = walk.left[0]
-    walk.left = walk.left[1]
+    piece = walk.left.pop()
     if isinstance(piece, Standing):
+        walk.standing.pop()
         end = walk.named[piece.name][3]
         walk.doing = Doing(end[2], linked(end[:2], (number, piece.kept)), (None, None), None)
     else:
@@ -345,13 +363,13 @@ def holds_alone(doing):
 
 def throw_away(held, record):
     """Cleans the guards of what is held, from the do outward, and of what is held within that."""
-    waiting = list(reversed(held))
+    waiting = list(held)
     while waiting != []:
         piece = waiting.pop()
         if isinstance(piece, Doing):
             record.extend(guards_of(piece))
             if holds_alone(piece):
-                waiting.extend(list(reversed(piece.held)))
+                waiting.extend(piece.held)
 
 
 def guards_of(doing):

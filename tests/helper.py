@@ -56,6 +56,11 @@ class CheckCase(unittest.TestCase):
             self.assertIs(type(caught.exception), kind)
 
 
+def codes_of(program, f):
+    """The code of a function with jumps, and without any."""
+    return [code_of(program, f), code_of(program, f, all_clauses(program))]
+
+
 class RunCase(unittest.TestCase):
     """Asks how runs end, of a program told by its text, and looks at them from all sides.
 
@@ -75,10 +80,16 @@ class RunCase(unittest.TestCase):
                 self.assertEqual(whole[2], used)
             self.looked_at(program, f, numbers, answers, turns, whole)
 
-    def looked_at(self, program, f, numbers, answers, turns, whole):
-        codes = [code_of(program, f), code_of(program, f, all_clauses(program))]
-        for code in codes:
+    def ran(self, program, numbers=(), answers=(), turns=2000, f="f"):
+        """What comes of a run, which its code comes to, too."""
+        whole = run(program, f, list(numbers), list(answers), turns)
+        for code in codes_of(program, f):
             self.assertEqual(run_code(code, list(numbers), list(answers), turns)[:3], whole)
+        return whole
+
+    def looked_at(self, program, f, numbers, answers, turns, whole):
+        codes = codes_of(program, f)
+        self.assertEqual(self.ran(program, numbers, answers, turns, f), whole)
         if whole[2] > 200:
             return
         self.assertEqual(second_run(program, f, numbers, answers, turns), whole)
@@ -721,6 +732,76 @@ def all_clauses(program):
     return [(item[1], clause[0]) for item in program if item[0] == "handler" for clause in item[2]]
 
 
+def second_steady(program, h):
+    """Whether a handler is steady (point 26)."""
+
+    def goes(tree, name, hidden):
+        if tree[0] == "go":
+            yield not hidden and tree[2] == ("var", name)
+        for k, part in enumerate(direct_parts(tree)):
+            yield from goes(part, name, hidden or tree[0] == "let" and k == 1 and tree[1] == name)
+
+    item = named(program, h)
+    x, s, end = item[3]
+    clauses = [body_ends_at_go(body) and all(goes(body, s, False)) for d, x_, s, body in item[2]]
+    return all(clauses) and end == ("var", x)
+
+
+def second_may_turn(program, one, other):
+    """Whether two handlers may be turned (point 26)."""
+    first, second = clause_deeds(program, one), clause_deeds(program, other)
+    rows = open_rows(program)
+    apart = not first & second and not set(rows[one][0]) & second and not set(rows[other][0]) & first
+    return apart and second_steady(program, one)
+
+
+def remade(program, change):
+    """A program whose bodies are changed."""
+    items = []
+    for item in program:
+        if item[0] == "def":
+            items.append(item[:4] + (change(item[4], item[3]),))
+        else:
+            clauses = tuple(clause[:3] + (change(clause[3], None),) for clause in item[2])
+            items.append(item[:2] + (clauses, item[3][:2] + (change(item[3][2], None),)))
+    return tuple(items)
+
+
+def parts_changed(tree, change):
+    """An expression whose parts are changed."""
+    if tree[0] == "call":
+        return tree[:3] + (tuple(change(part) for part in tree[3]),)
+    return tuple(change(thing) if isinstance(thing, tuple) else thing for thing in tree)
+
+
+def second_turned(program, one, other):
+    """A program in which two handlers are turned (point 27)."""
+
+    def change(tree, block=None):
+        if tree[:2] == ("handle", one) and tree[3][:2] == ("handle", other):
+            if tree[2][0] in ("num", "var") and tree[3][2][0] in ("num", "var"):
+                return ("handle", other, tree[3][2], ("handle", one, tree[2], change(tree[3][3])))
+        return parts_changed(tree, change)
+
+    return remade(program, change)
+
+
+def second_eased(program):
+    """A program that is eased (point 28)."""
+    table = open_rows(program)
+    every = set(all_deeds(program))
+
+    def change(tree, block):
+        if tree[0] == "handle" and tree[2][0] == "num":
+            # With all deeds for the block, what is let comes out, too.
+            if not comes_out(tree[3], program, table, block, every) & clause_deeds(program, tree[1]):
+                x, s, end = named(program, tree[1])[3]
+                return ("let", x, change(tree[3], block), ("let", s, tree[2], end))
+        return parts_changed(tree, lambda part: change(part, block))
+
+    return remade(program, change)
+
+
 KINDS = ("op", "let", "if", "call", "call", "call", "do", "do", "guard")
 # Of these programs are made that come further, and do more deeds, ahead of their turns' end.
 LIVELY = ("op", "op", "let", "if", "call", "do", "do", "do", "do", "guard", "guard")
@@ -824,3 +905,36 @@ class Maker:
         handed = [name for name, (params, block) in self.functions.items() if len(params) == 1 and block is None]
         args = tuple(part() for param in params)
         return ("call", name, None if takes is None else self.chance.choice(own + handed), args)
+
+
+class TurnMaker(Maker):
+    """Makes programs in which the handler ha is steady, and may mostly be turned with hb."""
+
+    def __init__(self, seed, depth):
+        Maker.__init__(self, seed, deeds=("a", "b", "c", "d"), depth=depth, kinds=LIVELY, goes=5)
+        self.answered = {"ha": self.chance.choice((["a"], ["a", "c"], [])), "hb": ["b"]}
+
+    def turnable(self):
+        """A program with one function more, t, in which handles of hb stand at once in such of ha."""
+        program = self.handled()
+        body = self.body(("x",), None, "free", 3)
+        for count in range(self.chance.randrange(1, 4)):
+            body = ("handle", "ha", self.leaf(("x",)), ("handle", "hb", self.leaf(("x",)), body))
+            body = self.chance.choice((body, ("guard", ("num", 3), body), ("op", "+", ("num", 1), body)))
+        return program + (("def", "t", ("x",), None, body),)
+
+    def handler(self, name):
+        # Its clauses do no deed but d, so that neither does what the other one answers.
+        kept = self.deeds, self.kinds, self.handlers
+        self.deeds, self.kinds, self.handlers = ("d",), ("op", "let", "if", "do", "guard"), []
+        clauses = tuple((deed, "x", "s", self.clause(name)) for deed in self.answered[name])
+        end = ("var", "x") if name == "ha" else self.body(("x", "s"), None, "end", 2)
+        self.deeds, self.kinds, self.handlers = kept
+        return ("handler", name, clauses, ("x", "s", end))
+
+    def clause(self, name):
+        if name != "ha":
+            return self.body(("x", "s"), None, "clause", 3)
+        go = ("go", self.body(("x", "s"), None, "free", 2), ("var", "s"))
+        other = ("let", "y", self.body(("x", "s"), None, "free", 1), ("go", ("var", "y"), ("var", "s")))
+        return self.chance.choice((go, other, ("if", self.leaf(("x", "s")), go, other)))

@@ -3,7 +3,6 @@
 import unittest
 
 from deedwright.reader import read
-from deedwright.walk import run
 from helper import RunCase, in_function
 
 ECHO = "(handler h (on a x s (go x s)) (end x s x))"
@@ -153,7 +152,7 @@ class Deep(RunCase):
         for number in range(56):
             body = ("op", "+", ("num", number), body)
         program = (("def", "f", ("n",), None, ("if", ("var", "n"), body, ("num", 0))),)
-        self.assertEqual(run(program, "f", [2000], [], 2000), (("done", 2000 * sum(range(56))), [], 2000))
+        self.assertEqual(self.ran(program, [2000]), (("done", 2000 * sum(range(56))), [], 2000))
 
     def test_under_a_handler_and_a_guard_at_each_depth(self):
         text = (
@@ -175,7 +174,7 @@ class Deep(RunCase):
         )
         depth = 900
         program = read(text)
-        end, record, used = run(program, "f", [depth], [], 2000)
+        end, record, used = self.ran(program, [depth])
         # Both dos go on twice, so there are four ways out, each with all guards cleaned.
         self.assertEqual((end, used), (("done", 4 * depth + 15 + 7 + 8 + 0), depth + 1 + 3 + 6))
         self.assertEqual(len([row for row in record if row[0] == "clean"]), 4 * depth)
@@ -188,7 +187,7 @@ class Deep(RunCase):
         )
         depth = 1998
         cleans = [("clean", number) for number in range(1, depth + 1)]
-        end, record, used = run(read(text), "f", [depth], [], 2000)
+        end, record, used = self.ran(read(text), [depth])
         self.assertEqual((end, used), (("done", 8), 2000))
         self.assertEqual(record[depth + 1 :], cleans)
 
@@ -204,7 +203,7 @@ class Deep(RunCase):
         for number in range(depth, -1, -1):
             record += [("guard", number), ("do", "a", number)]
         record += [("clean", number) for number in range(depth + 1)]
-        self.assertEqual(run(read(text), "f", [depth], [], 2000), (("done", 5), record, 2 * depth + 1))
+        self.assertEqual(self.ran(read(text), [depth]), (("done", 5), record, 2 * depth + 1))
 
     def test_a_chain_of_clauses_held_by_one_another(self):
         # Each b is done in the clause that holds the ones ahead, and is held by the next handler's
@@ -216,7 +215,7 @@ class Deep(RunCase):
             "(handler o (on z x s 77) (end x s x))"
         )
         depth = 900
-        end, record, used = run(read(text), "f", [depth], [], 2000)
+        end, record, used = self.ran(read(text), [depth])
         self.assertEqual((end, used), (("done", 77), 2 * depth + 3))
         expected = []
         for number in range(depth + 1):
@@ -232,7 +231,7 @@ class Deep(RunCase):
         depth = 666
         record = [("do", "a", number) for number in range(depth, 0, -1)]
         told = sum(range(depth + 1)) + depth + depth
-        self.assertEqual(run(read(text), "f", [depth], [], 2000), (("done", told), record, 1 + 3 * depth))
+        self.assertEqual(self.ran(read(text), [depth]), (("done", told), record, 1 + 3 * depth))
 
 
 if __name__ == "__main__":
