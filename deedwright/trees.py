@@ -26,6 +26,8 @@ FORMS = {
     "go": ("part", "part"),
     "guard": ("part", "part"),
 }
+# In all forms but that of a call the parts stand behind all else: from this place on.
+FIRST_PART = {"num": 2, "var": 2, "op": 2, "let": 2, "if": 1, "do": 2, "handle": 2, "go": 1, "guard": 1}
 CLAUSE_FORM = ("name", "name", "name", "part")
 END_FORM = ("name", "name", "part")
 
@@ -48,14 +50,14 @@ def parts_of(tree):
     """The parts of an expression, from left to right."""
     if tree[0] == "call":
         return tree[3]
-    return tuple([thing for kind, thing in zip(FORMS[tree[0]], tree[1:]) if kind == "part"])
+    return tree[FIRST_PART[tree[0]] :]
 
 
 def with_parts(tree, parts):
     """An expression with other parts, as many as it has, in the place of its own."""
     if tree[0] == "call":
         return tree[:3] + (tuple(parts),)
-    return tree[: len(tree) - len(parts)] + tuple(parts)
+    return tree[: FIRST_PART[tree[0]]] + tuple(parts)
 
 
 def all_within(tree):

@@ -3,7 +3,7 @@
 import unittest
 
 from deedwright import trees
-from helper import WORDS
+from helper import WORDS, bodies, direct_parts
 
 
 class Names(unittest.TestCase):
@@ -35,6 +35,14 @@ class Names(unittest.TestCase):
             if not "a" <= sign <= "z":
                 for word in (sign, "a" + sign, sign + "a", "a" + sign + "a"):
                     self.assertIs(trees.is_name(word), False)
+
+
+class Numbers(unittest.TestCase):
+    def test_numbers(self):
+        for word in ("0", "1", "10", "907", "9" * 18):
+            self.assertIs(trees.is_number(word), True)
+        for word in ("", "00", "01", "1" * 19, "-1", "+1", "1 ", "x", "1x", "\u0661"):
+            self.assertIs(trees.is_number(word), False)
 
 
 def fits(kind, value):
@@ -75,6 +83,32 @@ class Forms(unittest.TestCase):
         for tree in self.EXPRESSIONS:
             self.assertFalse(fits("part", tree[:-1]), tree)
             self.assertFalse(fits("part", tree + (("num", 1),)), tree)
+
+    def test_parts(self):
+        for tree in self.EXPRESSIONS:
+            parts = trees.parts_of(tree)
+            self.assertEqual(parts, tuple(direct_parts(tree)))
+            self.assertEqual(trees.with_parts(tree, list(parts)), tree)
+            other = [("num", number) for number in range(10, 10 + len(parts))]
+            self.assertEqual(trees.parts_of(trees.with_parts(tree, other)), tuple(other))
+            self.assertTrue(fits("part", trees.with_parts(tree, other)))
+
+    def test_bodies(self):
+        function = ("def", "f", ("x",), None, ("num", 1))
+        clauses = (("a", "x", "s", ("num", 1)), ("b", "x", "s", ("num", 2)))
+        end = ("x", "s", ("num", 3))
+        for item in (function, ("handler", "h", clauses, end), ("handler", "h", (), end)):
+            self.assertEqual(list(trees.bodies_of(item)), bodies(item))
+            self.assertEqual(trees.with_bodies(item, bodies(item)), item)
+            other = [("num", number) for number in range(10, 10 + len(bodies(item)))]
+            self.assertEqual(bodies(trees.with_bodies(item, other)), other)
+
+    def test_what_a_name_stands_for(self):
+        self.assertEqual(trees.stands_for("p", ("p", "g")), "g")
+        self.assertEqual(trees.stands_for("f", ("p", "g")), "f")
+        self.assertEqual(trees.stands_for("f", (None, None)), "f")
+        self.assertIsNone(trees.stands_for(None, ("p", "g")))
+        self.assertIsNone(trees.stands_for(None, (None, None)))
 
     def test_clauses_and_ends(self):
         self.assertEqual(trees.CLAUSE_FORM, ("name", "name", "name", "part"))

@@ -16,7 +16,7 @@ from deedwright.reader import read
 from deedwright.walk import begun, gone_on, run
 from deedwright.ways import let_by, way
 from deedwright.writer import shown
-from helper import KINDS, LIVELY, Maker, TurnMaker, all_clauses, is_way
+from helper import KINDS, LIVELY, Maker, TurnMaker, all_clauses, bodies, is_way, nested_parts
 
 # By hand: a counter, choices, generators that hold one another, a search that is broken off, and an
 # inner handler whose clauses do deeds of the outer one.
@@ -184,6 +184,51 @@ class Moves(unittest.TestCase):
                     self.assertEqual(run_code(code_of(other, f), numbers, answers, turns)[:3], whole)
         self.assertGreater(eases_made, 60)
         self.assertGreater(turns_made, 50)
+
+
+def large_program():
+    """Forty items: twenty functions of eight params, each under a handler of eight clauses; near to 2500 expressions."""
+    letters = "abcdefghijklmnopqrst"
+    params = tuple("abcdefgh")
+    items = []
+    for at, letter in enumerate(letters):
+        deeds = ["d" + letter + other for other in params]
+        body = ("num", 0)
+        for param, deed in zip(params, deeds):
+            body = ("op", "+", body, ("guard", ("var", param), ("do", deed, ("op", "-", ("var", param), ("num", at)))))
+        if at + 1 < len(letters):
+            args = tuple(("op", "+", ("var", param), ("num", 1)) for param in params)
+            call = ("call", "f" + letters[at + 1], None, args)
+            body = ("op", "+", ("handle", "h" + letter, ("num", at), call), body)
+        items.append(("def", "f" + letter, params, None, body))
+        # Each handler answers the deeds of the next function, every one in another way.
+        answered = ["d" + letters[(at + 1) % len(letters)] + other for other in params]
+        x, s = ("var", "x"), ("var", "s")
+        ways = [("go", x, s), ("go", x, ("op", "+", s, ("num", 1))), ("op", "+", ("go", x, s), ("num", 1))]
+        clauses = tuple((deed, "x", "s", ways[k % 3]) for k, deed in enumerate(answered))
+        items.append(("handler", "h" + letter, clauses, ("x", "s", ("op", "+", x, s))))
+    return tuple(items)
+
+
+class Bounds(unittest.TestCase):
+    def test_a_program_as_large_as_the_bounds_let(self):
+        program = large_program()
+        self.assertIsNone(check(program))
+        self.assertEqual(len(program), 40)
+        count = sum(len(list(nested_parts(body))) for item in program for body in bodies(item))
+        self.assertGreater(count, 2200)
+        self.assertLess(count, 2500)
+        numbers = [-(10**6), -1, 0, 1, 2, 3, 10**6, 10**9]
+        # The first function's eight deeds are answered by hand.
+        self.assertEqual(len(row_of(program, "fa")), 8)
+        whole = run(program, "fa", numbers, [1, 2, 3, 4, 5, 6, 7, 8], 2000)
+        self.assertEqual((whole[0][0], whole[2]), ("done", 19 + 160 + 152))
+        for taken in (None, all_clauses(program)):
+            told = run_code(code_of(program, "fa", taken), numbers, [1, 2, 3, 4, 5, 6, 7, 8], 2000)
+            self.assertEqual(told, whole + (0,))
+        self.assertEqual(eased(program), program)
+        handlers = [item[1] for item in program if item[0] == "handler"]
+        self.assertFalse(any(may_turn(program, one, other) for one in handlers[:3] for other in handlers))
 
 
 class ByHand(unittest.TestCase):
