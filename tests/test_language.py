@@ -28,6 +28,14 @@ NEVER = "register mro elements open input version_info with_traceback add_note f
 WORDS = """type typing typing_extensions enum Enum IntEnum StrEnum Flag IntFlag Generic Protocol ABC ABCMeta
     namedtuple NamedTuple TypedDict TYPE_CHECKING abstractmethod""".split()
 WITHIN = ["dataclass", "overload", "contextmanager"]
+# What an object's value is not called: like a method or value of Python's own values, but for these few.
+FREE_VALUES = "count index title find get join lower upper split strip copy add".split()
+TAKEN_VALUES = [
+    name
+    for kind in (str, int, list, dict, set, bytes)
+    for name in dir(kind) + ["args", "format"]
+    if name not in FREE_VALUES and not name.startswith("_")
+]
 WALKS = ["zip", "enumerate", "reversed", "range", "items", "keys", "values"]
 WALKERS = ["list", "tuple", "dict", "sorted", "sum", "any", "all", "enumerate", "zip"]
 
@@ -268,13 +276,58 @@ def pair_faults(parent, node):
         yield "L27", node.lineno
 
 
+def kept_lists(tree):
+    """The names of the lists and dicts of a file's top."""
+    tops = [node for node in tree.body if isinstance(node, ast.Assign) and isinstance(node.value, (ast.List, ast.Dict))]
+    return [node.targets[0].id for node in tops]
+
+
+def is_only_read(node, parent):
+    """Whether a list or dict of a file's top is but read where it stands."""
+    if isinstance(parent, ast.Subscript):
+        return parent.value == node and isinstance(parent.ctx, ast.Load)
+    if isinstance(parent, ast.Attribute):
+        return parent.attr in ("get", "items", "keys", "values", "index", "count")
+    if isinstance(parent, (ast.For, ast.comprehension)):
+        return parent.iter == node
+    return isinstance(parent, ast.Compare) or called_name(parent) in WALKERS + ["len", "min", "max", "reversed"]
+
+
+def kept_faults(tree):
+    """Of the lists and dicts of a file's top, which are read alone."""
+    names = kept_lists(tree)
+    for parent in ast.walk(tree):
+        for node in ast.iter_child_nodes(parent):
+            named = isinstance(node, ast.Name) and node.id in names and isinstance(node.ctx, ast.Load)
+            if named and not is_only_read(node, parent):
+                yield "L15", node.lineno
+
+
+def object_values(tree):
+    """The names of the values that objects are given, with the nodes that do so."""
+    for node in ast.walk(tree):
+        if isinstance(node, ast.Attribute) and isinstance(node.ctx, ast.Store):
+            yield node.attr, node
+
+
+def object_faults(tree, methods):
+    """Of the values of objects: their names, and through what they are given."""
+    classes = [node.name for node in ast.walk(tree) if isinstance(node, ast.ClassDef)]
+    for name, node in object_values(tree):
+        if name in TAKEN_VALUES:
+            yield "L26", node.lineno
+        if name in methods or isinstance(node.value, ast.Name) and node.value.id in classes:
+            yield "L18", node.lineno
+
+
 def faults(source, methods=()):
     """The rules that a file breaks, with the rows; methods are those of the whole package's classes."""
     tree = ast.parse(source)
+    own_methods = list(methods) + [part.name for part in methods_of(tree)]
     found = list(text_faults(source)) + list(top_faults(tree)) + list(import_faults(tree)) + list(local_faults(tree))
-    known = list(methods) + [part.name for part in methods_of(tree)]
+    found += list(kept_faults(tree)) + list(object_faults(tree, own_methods))
     for node in ast.walk(tree):
-        found += node_faults(node, known)
+        found += node_faults(node, own_methods)
         for part in ast.iter_child_nodes(node):
             found += pair_faults(node, part)
     return found
@@ -308,8 +361,14 @@ BROKEN = (
     ("L16", "import sys\n"),
     ("L16", "from deedwright.errors import nothing\n"),
     ("L16", "from deedwright.reader import NoText\n"),
+    ("L15", "a = [1]\n\n\ndef f():\n    a.append(2)\n"),
+    ("L15", "a = {1: 2}\n\n\ndef f():\n    a[1] = 2\n"),
+    ("L15", "a = {1: 2}\n\n\ndef f():\n    return a\n"),
+    ("L15", "a = {1: 2}\n\n\ndef f():\n    b = a\n    return f(a)\n"),
     ("L17", "# the type of it\n"),
     ("L17", "def f(a):\n    a.sort()\n"),
+    ("L18", "class A:\n    pass\n\n\ndef f():\n    A.x = 1\n"),
+    ("L18", "class A:\n    def say(self):\n        return 1\n\n\ndef f(a):\n    a.say = 1\n"),
     ("L19", "def f(a):\n    try:\n        return a[0]\n    except Exception:\n        return 1\n"),
     ("L20", "def f(a, b):\n    return a is b\n"),
     ("L23", "def f(a):\n    b = reversed(a)\n    return list(b)\n"),
@@ -319,6 +378,8 @@ BROKEN = (
     ("L24", "def f(a):\n    for b in {1, a}:\n        return b\n"),
     ("L25", "def f(a):\n    return a.casefold()\n"),
     ("L25", "def f(a):\n    b = a.append\n    return b\n"),
+    ("L26", "class A:\n    def __init__(self):\n        self.items = 1\n"),
+    ("L26", "def f(a):\n    a.args = 1\n"),
     ("L27", "a = '%'\n"),
     ("L27", "def f(a):\n    return 2 ** a\n"),
 )
@@ -329,6 +390,8 @@ KEPT = (
     "def f(a, b):\n    return dict(zip(a, b))\n",
     "def f(a):\n    return f'{a} {a!r}'\n",
     "def f(a):\n    return ' '.join(a.keys())\n",
+    "a = {1: 2}\n\n\ndef f(b):\n    return a[b] if b in a else dict(a)\n",
+    "def f(a):\n    return a\n\n\nb = {1: f}\n\n\ndef g(c):\n    return b[c](c)\n",
 )
 
 

@@ -187,7 +187,7 @@ class Moves(unittest.TestCase):
 
 
 def large_program():
-    """Forty items: twenty functions of eight params, each under a handler of eight clauses; near to 2500 expressions."""
+    """Twenty functions of eight params, each under a handler of eight clauses, with near to 2500 expressions."""
     letters = "abcdefghijklmnopqrst"
     params = tuple("abcdefgh")
     items = []
